@@ -186,11 +186,7 @@ func (m *Meta) keep(int) api.Errno {
 
 // add adds a name to a directory's table.
 func (m *Meta) add(parent int, name string, i, spare int) api.Errno {
-	x, e := m.Inode(parent)
-	if e != api.OK {
-		return e
-	}
-	t, e := m.Table(parent)
+	x, t, e := m.directory(parent)
 	if e != api.OK {
 		return e
 	}
@@ -209,11 +205,7 @@ func (m *Meta) add(parent int, name string, i, spare int) api.Errno {
 
 // remove removes a name from a directory's table.
 func (m *Meta) remove(parent int, name string) api.Errno {
-	x, e := m.Inode(parent)
-	if e != api.OK {
-		return e
-	}
-	t, e := m.Table(parent)
+	x, t, e := m.directory(parent)
 	if e != api.OK {
 		return e
 	}
@@ -223,6 +215,16 @@ func (m *Meta) remove(parent int, name string) api.Errno {
 	}
 	x.Size--
 	return m.setEntry(parent, x, t, at, api.Entry{})
+}
+
+// directory returns a directory's inode and its table.
+func (m *Meta) directory(i int) (api.Inode, dir.Table, api.Errno) {
+	t, e := m.Table(i)
+	if e != api.OK {
+		return api.Inode{}, dir.Table{}, e
+	}
+	x, e := m.Inode(i)
+	return x, t, e
 }
 
 // setEntry stores a directory with one changed entry; a block that has no
