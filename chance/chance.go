@@ -1,0 +1,106 @@
+// Package chance makes steps of a system that look random, for tests. The same
+// seed makes the same steps.
+package chance
+
+import (
+	"strings"
+
+	"commons/api"
+)
+
+// Source is a sequence of numbers that look random.
+type Source struct {
+	state uint64
+}
+
+// New returns the sequence of a seed.
+func New(seed int) *Source {
+	s := &Source{uint64(seed)*2654435761 + 88172645463325252}
+	for range 10 {
+		s.Below(2)
+	}
+	return s
+}
+
+// Below returns the next number, from 0 to n - 1.
+func (s *Source) Below(n int) int {
+	s.state ^= s.state << 13
+	s.state ^= s.state >> 7
+	s.state ^= s.state << 17
+	return int(s.state>>11) % n
+}
+
+// Bytes returns up to n bytes.
+func (s *Source) Bytes(n int) string {
+	var b strings.Builder
+	for range s.Below(n + 1) {
+		b.WriteByte(byte('a' + s.Below(26)))
+	}
+	return b.String()
+}
+
+// Mix is what steps are made of.
+type Mix struct {
+	Clients int
+	Skew    int      // the greatest skew
+	Crashes bool     // nodes lose their power
+	Paths   []string // of the calls
+}
+
+// Step returns a step.
+func (m Mix) Step(s *Source) api.Step {
+	switch k := s.Below(100); {
+	case k < 24:
+		return api.Step{Op: api.StepCall, Node: 1 + s.Below(m.Clients), Call: m.call(s)}
+	case k < 68:
+		return api.Step{Op: api.StepDeliver, N: s.Below(8), Stay: s.Below(8) == 0}
+	case k < 76:
+		return api.Step{Op: api.StepDeliver, N: s.Below(api.MaxPackets)}
+	case k < 80:
+		return api.Step{Op: api.StepDrop, N: s.Below(8)}
+	case k < 86:
+		return m.pass(s)
+	case k < 89:
+		return api.Step{Op: api.StepEvict, N: s.Below(362)}
+	case k < 91 && m.Crashes:
+		return m.crash(s)
+	case k < 94:
+		return api.Step{Op: api.StepStart, Node: s.Below(m.Clients + 1)}
+	}
+	return api.Step{Op: api.StepCalm, N: 1 + s.Below(12)}
+}
+
+func (m Mix) pass(s *Source) api.Step {
+	p := api.Step{Op: api.StepPass, N: 1 + s.Below(20)}
+	for range s.Below(m.Clients + 2) {
+		p.Skew = append(p.Skew, s.Below(2*m.Skew+1)-m.Skew)
+	}
+	return p
+}
+
+func (m Mix) crash(s *Source) api.Step {
+	c := api.Step{Op: api.StepCrash, Node: s.Below(m.Clients + 1)}
+	for range s.Below(40) {
+		c.Picks = append(c.Picks, s.Below(10)-5)
+	}
+	return c
+}
+
+// call returns a call; those that work on bytes are the most frequent ones.
+func (m Mix) call(s *Source) api.Call {
+	kinds := []int{
+		api.Open, api.Open, api.Open, api.Open, api.Close, api.Read, api.Read, api.Read, api.Write, api.Write, api.Write, api.Trunc,
+		api.Sync, api.Mkdir, api.Rmdir, api.Link, api.Unlink, api.Rename, api.List, api.Stat,
+	}
+	c := api.Call{
+		Kind: kinds[s.Below(len(kinds))], Path: m.Paths[s.Below(len(m.Paths))], Path2: m.Paths[s.Below(len(m.Paths))],
+		Flags: api.Create, Fd: s.Below(3), Off: s.Below(api.MaxFile), N: s.Below(api.MaxData + 1), Data: s.Bytes(api.MaxData),
+	}
+	if s.Below(4) == 0 {
+		c.Flags = s.Below(4)
+	}
+	if c.Kind == api.Trunc {
+		c.N = s.Below(api.MaxFile + 2)
+	}
+	return c
+}
