@@ -52,19 +52,19 @@ func (m Mix) Step(s *Source) api.Step {
 	switch k := s.Below(100); {
 	case k < 24:
 		return api.Step{Op: api.StepCall, Node: 1 + s.Below(m.Clients), Call: m.call(s)}
-	case k < 68:
+	case k < 62:
 		return api.Step{Op: api.StepDeliver, N: s.Below(8), Stay: s.Below(8) == 0}
-	case k < 76:
+	case k < 68:
 		return api.Step{Op: api.StepDeliver, N: s.Below(api.MaxPackets)}
-	case k < 80:
+	case k < 71:
 		return api.Step{Op: api.StepDrop, N: s.Below(8)}
-	case k < 86:
+	case k < 77:
 		return m.pass(s)
-	case k < 89:
+	case k < 80:
 		return api.Step{Op: api.StepEvict, N: s.Below(362)}
-	case k < 91 && m.Crashes:
+	case k < 82 && m.Crashes:
 		return m.crash(s)
-	case k < 94:
+	case k < 88:
 		return api.Step{Op: api.StepStart, Node: s.Below(m.Clients + 1)}
 	}
 	return api.Step{Op: api.StepCalm, N: 1 + s.Below(12)}
@@ -89,14 +89,14 @@ func (m Mix) crash(s *Source) api.Step {
 // call returns a call; those that work on bytes are the most frequent ones.
 func (m Mix) call(s *Source) api.Call {
 	kinds := []int{
-		api.Open, api.Open, api.Open, api.Open, api.Close, api.Read, api.Read, api.Read, api.Write, api.Write, api.Write, api.Trunc,
-		api.Sync, api.Mkdir, api.Rmdir, api.Link, api.Unlink, api.Rename, api.List, api.Stat,
+		api.Open, api.Open, api.Open, api.Open, api.Open, api.Open, api.Close, api.Read, api.Read, api.Read, api.Write, api.Write, api.Write, api.Trunc,
+		api.Sync, api.Mkdir, api.Mkdir, api.Rmdir, api.Link, api.Unlink, api.Rename, api.List, api.Stat,
 	}
 	c := api.Call{
 		Kind: kinds[s.Below(len(kinds))], Path: m.Paths[s.Below(len(m.Paths))], Path2: m.Paths[s.Below(len(m.Paths))],
-		Flags: api.Create, Fd: s.Below(3), Off: s.Below(api.MaxFile), N: s.Below(api.MaxData + 1), Data: s.Bytes(api.MaxData),
+		Flags: api.Create, Fd: s.Below(1 + s.Below(3)), Off: s.Below(api.MaxFile), N: s.Below(api.MaxData + 1), Data: s.Bytes(api.MaxData),
 	}
-	if s.Below(4) == 0 {
+	if s.Below(8) == 0 {
 		c.Flags = s.Below(4)
 	}
 	if c.Kind == api.Trunc {
