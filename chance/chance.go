@@ -86,21 +86,43 @@ func (m Mix) crash(s *Source) api.Step {
 	return c
 }
 
-// call returns a call; those that work on bytes are the most frequent ones.
+// call returns a call, with the fields of its kind alone; those that work on
+// bytes are the most frequent ones.
 func (m Mix) call(s *Source) api.Call {
 	kinds := []int{
-		api.Open, api.Open, api.Open, api.Open, api.Open, api.Open, api.Close, api.Read, api.Read, api.Read, api.Write, api.Write, api.Write, api.Trunc,
-		api.Sync, api.Mkdir, api.Mkdir, api.Rmdir, api.Link, api.Unlink, api.Rename, api.List, api.Stat,
+		api.Open, api.Open, api.Open, api.Open, api.Open, api.Open, api.Close, api.Read, api.Read, api.Read, api.Write, api.Write, api.Write,
+		api.Trunc, api.Sync, api.Mkdir, api.Mkdir, api.Rmdir, api.Link, api.Unlink, api.Rename, api.List, api.Stat,
 	}
-	c := api.Call{
-		Kind: kinds[s.Below(len(kinds))], Path: m.Paths[s.Below(len(m.Paths))], Path2: m.Paths[s.Below(len(m.Paths))],
-		Flags: api.Create, Fd: s.Below(1 + s.Below(3)), Off: s.Below(api.MaxFile), N: s.Below(api.MaxData + 1), Data: s.Bytes(api.MaxData),
+	c := api.Call{Kind: kinds[s.Below(len(kinds))]}
+	switch c.Kind {
+	case api.Open:
+		c.Path, c.Flags = m.path(s), flags(s)
+	case api.Link, api.Rename:
+		c.Path, c.Path2 = m.path(s), m.path(s)
+	case api.Mkdir, api.Rmdir, api.Unlink, api.List, api.Stat:
+		c.Path = m.path(s)
+	default:
+		c.Fd = s.Below(1 + s.Below(3))
 	}
-	if s.Below(8) == 0 {
-		c.Flags = s.Below(4)
-	}
-	if c.Kind == api.Trunc {
+	switch c.Kind {
+	case api.Read:
+		c.Off, c.N = s.Below(api.MaxFile), s.Below(api.MaxData+1)
+	case api.Write:
+		c.Off, c.Data = s.Below(api.MaxFile), s.Bytes(api.MaxData)
+	case api.Trunc:
 		c.N = s.Below(api.MaxFile + 2)
 	}
 	return c
+}
+
+func (m Mix) path(s *Source) string {
+	return m.Paths[s.Below(len(m.Paths))]
+}
+
+// flags returns those of an Open, which creates a file in most cases.
+func flags(s *Source) int {
+	if s.Below(8) == 0 {
+		return s.Below(4)
+	}
+	return api.Create
 }
