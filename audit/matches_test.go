@@ -241,6 +241,20 @@ func TestUnsound(t *testing.T) {
 		p.done(t, p.v.Meta().SetInode(5, x))
 		p.match(t, true)
 	}
+	root, _ := p.v.Meta().Inode(1)
+	table, _ := p.v.Meta().Table(1)
+	at := table.Find("0")
+	data, _ := layout.Find(layout.Data, root.Blocks[at/4])
+	for i, entry := range []api.Entry{{Name: "0", Inode: 1}, {Name: "0", Inode: 2}, {Name: "0", Inode: 30}, {Name: "a", Inode: 4}} {
+		b, _ := table.Set(at, entry).Block(at / 4)
+		p.done(t, p.v.Store(data.At, b))
+		if audit.Matches(p.v, p.f) {
+			t.Error("entry", i)
+		}
+		b, _ = table.Block(at / 4)
+		p.done(t, p.v.Store(data.At, b))
+		p.match(t, true)
+	}
 	d, _ := p.v.Meta().Inode(2)
 	larger := d
 	larger.Size++

@@ -157,6 +157,20 @@ func TestAtOnce(t *testing.T) {
 	b.told(t, api.Reply{Errno: api.ErrInval})
 }
 
+// P23.2: calls that just need the server.
+func TestNotAtOnce(t *testing.T) {
+	for i, c := range []api.Call{
+		readCall(0, 0, 0), readCall(0, 0, 64), readCall(0, math.MaxInt, 1), writeCall(0, 192, big), writeCall(0, 255, "x"), writeCall(0, 0, "x"), {Kind: api.Trunc, N: 0}, {Kind: api.Trunc, N: 256}, {Kind: api.Close}, {Kind: api.Open}, {Kind: api.Stat},
+	} {
+		b := started(t, 8)
+		b.open(t, 4, 0)
+		one(t, b.ask(t, c))
+		if !b.Busy() {
+			t.Error(i)
+		}
+	}
+}
+
 // P23.2
 func TestAskErrors(t *testing.T) {
 	b := started(t, 1)
@@ -558,6 +572,33 @@ func TestClean(t *testing.T) {
 	b.trusts(t, client.Trust{Inode: 4, Own: true}, client.Trust{Inode: 5})
 }
 
+// P23.2: a record has to leave room for the end, and one record makes a lease go.
+func TestCleanInTime(t *testing.T) {
+	b := started(t, 2)
+	b.open(t, 4, 0)
+	b.open(t, 5, 1)
+	l := b.granted(t, b.ask(t, writeCall(1, 0, "once")), 5, 1, file(0))
+	none(t, b.written(t, l, api.Record{Call: b.seq + 1, Inode: 5, Data: "once"}))
+	b.told(t, api.Reply{})
+	b.seq++
+	l = b.granted(t, b.ask(t, writeCall(0, 0, big)), 4, 1, file(0))
+	none(t, b.written(t, l, api.Record{Call: b.seq + 1, Inode: 4, Data: big}))
+	b.told(t, api.Reply{})
+	for range 10 {
+		b.write(t, 0, 4, 0, big)
+	}
+	if b.log != 992 {
+		t.Fatal(b.log)
+	}
+	clean := one(t, b.ask(t, writeCall(0, 0, "12345678")))
+	if clean.Op != api.Clean {
+		t.Fatal(clean)
+	}
+	b.seq = max(clean.Seq, b.Id())
+	b.granted(t, b.begin(t, clean, 4), 4, 1, file(64, 7))
+	b.trusts(t, client.Trust{Inode: 4, Own: true})
+}
+
 // P23.2: an error of a Clean answers the call.
 func TestCleanError(t *testing.T) {
 	b := started(t, 2)
@@ -618,6 +659,19 @@ func TestRecallDuringCall(t *testing.T) {
 	none(t, b.gotNothing(t, b.granted(t, b.ask(t, readCall(2, 0, 1)), 9, 0, file(0))))
 	b.told(t, api.Reply{})
 	b.trusts(t, client.Trust{Inode: 5}, client.Trust{Inode: 9})
+}
+
+// P23.2: with the Give an inode is no longer recalled.
+func TestRecallOnce(t *testing.T) {
+	b := started(t, 2)
+	b.open(t, 4, 0)
+	none(t, b.gotNothing(t, b.granted(t, b.ask(t, readCall(0, 0, 1)), 4, 0, file(0))))
+	b.told(t, api.Reply{})
+	q := b.question(t, b.recall(t, 4), api.Packet{Op: api.Give, Inode: 4})
+	none(t, b.ask(t, readCall(0, 0, 1)))
+	none(t, b.gotNothing(t, b.granted(t, b.answer(t, q, api.Packet{}), 4, 0, file(0))))
+	b.told(t, api.Reply{})
+	b.trusts(t, client.Trust{Inode: 4})
 }
 
 // P23.2: a Recall of a greater inode without a lease is forgotten with the Give of a lesser one.

@@ -277,7 +277,7 @@ func TestApply(t *testing.T) {
 		want api.Errno
 	}{
 		{api.Record{}, api.ErrArg}, {record(257, ""), api.ErrArg}, {api.Record{Inode: 1, Trunc: true, Data: "x"}, api.ErrArg}, {api.Record{Inode: 33}, api.ErrArg},
-		{api.Record{Inode: 1}, api.ErrIsDir}, {api.Record{Inode: 5}, api.ErrNone}, {api.Record{Inode: 5, Off: 3, Data: "x"}, api.ErrNone},
+		{api.Record{Inode: 5, Off: 257}, api.ErrArg}, {api.Record{Inode: 1, Call: -1}, api.ErrArg}, {api.Record{Inode: 1}, api.ErrIsDir}, {api.Record{Inode: 5}, api.ErrNone}, {api.Record{Inode: 5, Off: 3, Data: "x"}, api.ErrNone},
 	} {
 		if e := v.Apply(c.r, 0); e != c.want || len(v.x.Patches()) > 0 {
 			t.Error(i, e)

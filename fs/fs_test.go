@@ -165,10 +165,24 @@ func TestServersTime(t *testing.T) {
 	f := ready(t, 2)
 	does(t, f, call(1, open("/a")), calm(1), call(1, write(0, "x")), calm(2))
 	told(t, f, api.Reply{})
-	epoch := f.Server().Epoch(1)
+	epoch, moment := f.Server().Epoch(1), f.Moment()
 	does(t, f, api.Step{Op: api.StepPass, N: 64}, api.Step{Op: api.StepPass, N: 8})
 	if f.Server().Epoch(1) != epoch+1 || len(f.Server().Leases().All()) != 0 {
 		t.Error("the grant is not over", f.Server().Epoch(1), f.Server().Leases().All())
+	}
+	if f.Moment() != moment+1 {
+		t.Error("the record was taken over", f.Moment(), moment)
+	}
+}
+
+// P24.2: a server that is down handles no time.
+func TestNoTimeAtServer(t *testing.T) {
+	f := ready(t, 1)
+	does(t, f, call(1, open("/a")), calm(1), call(1, write(0, "x")), calm(2), crash(0))
+	epoch, moment := f.Server().Epoch(1), f.Moment()
+	does(t, f, api.Step{Op: api.StepPass, N: 64}, api.Step{Op: api.StepPass, N: 64})
+	if f.Server().Epoch(1) != epoch || f.Moment() != moment || len(f.Server().Leases().All()) != 1 {
+		t.Error(f.Server().Epoch(1), epoch)
 	}
 }
 
@@ -251,8 +265,9 @@ func TestInject(t *testing.T) {
 	recall, _ := wire.Put(api.Packet{Kind: api.Recall, Client: 2, Inode: 4})
 	does(t, f, inject(2, recall))
 	forged, _ := wire.Put(api.Packet{Kind: api.RpcAsk, Client: 8, Op: api.Hello, Seq: 5})
-	does(t, f, start(0), inject(0, forged), calm(2))
-	if f.Bag().Len() != 0 {
+	next, _ := wire.Put(api.Packet{Kind: api.RpcAsk, Client: 3, Op: api.Hello, Seq: 5})
+	does(t, f, start(0), inject(0, forged), inject(0, next), calm(2))
+	if f.Bag().Len() != 0 || len(f.Dropped(3)) != 0 {
 		t.Error("packets to nobody", f.Bag().Len())
 	}
 }
@@ -322,19 +337,37 @@ func TestExample(t *testing.T) {
 	told(t, f, api.Reply{})
 }
 
-// P24.3: a List that is executed again takes effect again.
-func TestListAgain(t *testing.T) {
-	f := ready(t, 2)
-	does(t, f, call(1, api.Call{Kind: api.List, Path: "/"}), deliver(0))
-	first := untold(t, f).Done
-	if first == 0 {
-		t.Fatal("no effect")
+// P24.3: a List or a Stat that is executed again takes effect again; a Mkdir is executed once.
+func TestAgain(t *testing.T) {
+	for kind, path := range map[int]string{api.List: "/", api.Stat: "/", api.Mkdir: "/x"} {
+		f := ready(t, 2)
+		does(t, f, call(1, api.Call{Kind: kind, Path: path}), deliver(0))
+		first := untold(t, f).Done
+		if first == 0 {
+			t.Fatal("no effect")
+		}
+		does(t, f, api.Step{Op: api.StepDrop}, crash(0), start(0))
+		does(t, f, call(2, api.Call{Kind: api.Mkdir, Path: "/d"}), calm(6))
+		e, other := f.Events()[0], f.Events()[1]
+		if e.Told == 0 || e.Reply.Errno != api.OK {
+			t.Error(kind, e)
+		}
+		if once := kind == api.Mkdir; once && e.Done != first || !once && e.Done < other.Done {
+			t.Error(kind, e, other)
+		}
 	}
-	does(t, f, api.Step{Op: api.StepDrop}, crash(0), start(0))
-	does(t, f, call(2, api.Call{Kind: api.Mkdir, Path: "/d"}), calm(6))
-	l := f.Events()
-	if e := l[0]; !slices.Equal(e.Reply.Names, []string{"d"}) || e.Done <= first || e.Done < l[1].Done {
-		t.Error(l)
+}
+
+// P24.3: a Get concerns a Read alone.
+func TestGetDuringOtherCall(t *testing.T) {
+	f := ready(t, 1)
+	does(t, f, call(1, api.Call{Kind: api.Mkdir, Path: "/d"}))
+	p, _ := layout.Find(layout.Logs, 1)
+	get, _ := wire.Put(api.Packet{Kind: api.VerbAsk, Client: 1, Epoch: f.Server().Epoch(1), Seq: 1, Op: api.Get, At: p.At, N: 8})
+	moment := f.Moment()
+	does(t, f, api.Step{Op: api.StepInject, Data: get})
+	if e := untold(t, f); e.Done != 0 || f.Moment() != moment+1 {
+		t.Error(e, f.Moment())
 	}
 }
 
@@ -352,6 +385,22 @@ func TestRead(t *testing.T) {
 	e := told(t, f, api.Reply{Data: "xxxxy"})
 	if dones = slices.Compact(dones); !slices.Contains(dones, e.Done) || len(slices.DeleteFunc(dones, func(d int) bool { return d == 0 })) < 2 {
 		t.Error(dones, e)
+	}
+}
+
+// P24.3: a Trunc is undone like a Write.
+func TestTruncAndCrash(t *testing.T) {
+	f := ready(t, 1)
+	does(t, f, call(1, open("/a")), calm(1), call(1, api.Call{Kind: api.Trunc, N: 5}))
+	for i := 0; untold(t, f).Done == 0 && i < 50; i++ {
+		does(t, f, deliver(0))
+	}
+	if untold(t, f).Done == 0 {
+		t.Fatal("no effect")
+	}
+	does(t, f, crash(0))
+	if e := untold(t, f); e.Done != 0 {
+		t.Error("undone", e)
 	}
 }
 
@@ -435,7 +484,7 @@ func TestClientCrash(t *testing.T) {
 	first := last(t, f).Done
 	f.Do(deliver(0))
 	does(t, f, crash(1))
-	if len(f.Bag().To(1)) != 0 || f.Up(1) {
+	if len(f.Bag().To(1)) != 0 || f.Up(1) || f.Client(1).Busy() || f.Client(1).Id() != 0 {
 		t.Error("packets to it", f.Bag().To(1))
 	}
 	refused(t, f, crash(1), call(1, open("/b")))

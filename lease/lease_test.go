@@ -159,9 +159,10 @@ func TestDrop(t *testing.T) {
 		l.Drop(c)
 	}
 	asks(t, l, 0, 3, 2, shared, api.ErrAgain, 1)
-	l.Drop(2)
-	has(t, l, lease.Held{Client: 1, Inode: 2, Own: true, Until: 64}, lease.Held{Client: 1, Inode: 3, Until: 64})
 	l.Give(1, 2)
+	asks(t, l, 0, 3, 2, own, api.ErrAgain)
+	l.Drop(2)
+	has(t, l, lease.Held{Client: 1, Inode: 3, Until: 64})
 	asks(t, l, 0, 3, 2, own, api.OK)
 }
 

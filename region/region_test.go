@@ -106,9 +106,11 @@ func TestEpochs(t *testing.T) {
 			t.Error(k)
 		}
 	}
-	if b.Epoch(1) != 3 || b.Epoch(2) != 1 || b.Epoch(3) != 0 {
-		t.Error(b.Epoch(1), b.Epoch(2))
+	b.SetEpoch(8, 5)
+	if b.Epoch(1) != 3 || b.Epoch(2) != 1 || b.Epoch(3) != 0 || b.Epoch(8) != 5 {
+		t.Error(b.Epoch(1), b.Epoch(2), b.Epoch(8))
 	}
+	b.does(t, 8, put(13952, "x"), api.OK, "", 0)
 	b.does(t, 1, put(6784, "x"), api.OK, "", 0)
 	b.does(t, 1, put(6785, "y"), api.OK, "", 0)
 	b.does(t, 2, put(7808, "z"), api.OK, "", 0)

@@ -87,6 +87,11 @@ func TestNumbers(t *testing.T) {
 	b.gets(t, ask(0, 0, api.Packet{Op: api.Hello}))
 	b.gets(t, ask(0, 0, api.Packet{Op: api.Resume}))
 	b.gets(t, ask(1<<40+1, 0, api.Packet{Op: api.Hello}))
+	last := ask(1<<40, 0, api.Packet{Op: api.Hello})
+	last.Client = 8
+	b.gets(t, last, told(last, func(a *api.Packet) { a.At = 2 }))
+	b.gets(t, last, told(last, func(a *api.Packet) { a.At = 2 }))
+	b.Marks()
 	hello := ask(5, 0, api.Packet{Op: api.Hello})
 	b.gets(t, hello, told(hello, func(a *api.Packet) { a.At = 2 }))
 	b.marked(t, server.Mark{Client: 1, Id: 5, Fresh: true})
@@ -201,6 +206,45 @@ func TestMaxEpoch(t *testing.T) {
 	if l := b.send(t, clean); len(l) != 1 || l[0].Errno != api.ErrArg {
 		t.Error(l)
 	}
+}
+
+// P22.2: a Hello in the last epoch leaves the log as it is.
+func TestHelloInLastEpoch(t *testing.T) {
+	b := fresh(t).loud()
+	b.hello(t, 1)
+	i := b.open(t, 1, "/a")
+	b.slot(t, 1, func(s *api.Slot) { s.Epoch = api.MaxEpoch - 1 })
+	b.start(t)
+	b.write(t, 1, api.Record{Call: 9, Inode: i, Data: "x"}, true)
+	b.Marks()
+	if l := b.send(t, b.question(1, api.Packet{Op: api.Hello})); len(l) != 1 || l[0].Errno != api.ErrArg || l[0].At != api.MaxEpoch {
+		t.Error(l)
+	}
+	b.marked(t, server.Mark{Client: 1, Id: b.seqs[1], Fresh: true, Errno: api.ErrArg})
+	if x, _ := b.Volume().Meta().Inode(i); len(b.Volume().Pending(1)) != 1 || x.Opens[0] != 1 {
+		t.Error("something happened", b.Volume().Pending(1), x)
+	}
+}
+
+// P22.2: what cannot be committed is answered with lack of room, once.
+func TestChangeTooGreat(t *testing.T) {
+	b := fresh(t)
+	b.hello(t, 1)
+	block, _ := layout.Find(layout.Data, 100)
+	for range 15 {
+		if e := b.Volume().Store(block.At, make([]byte, 256)); e != api.OK {
+			t.Fatal(e)
+		}
+	}
+	b.Marks()
+	q := b.asks(t, 1, path1(api.Open, "/a", 1), failed(api.ErrSpace))
+	b.marked(t, server.Mark{Client: 1, Id: q.Seq, Errno: api.ErrSpace})
+	s, _ := b.Volume().Slot(1)
+	if l, _ := b.Volume().Meta().List("/"); s.Rpc != q.Seq || s.Kept != (api.Answer{Errno: api.ErrSpace}) || len(l) != 0 {
+		t.Error(s, l)
+	}
+	b.gets(t, q, told(q, failed(api.ErrSpace)))
+	b.open(t, 1, "/a")
 }
 
 // P22.2: Resume.
@@ -415,6 +459,24 @@ func TestGrantWithoutRoom(t *testing.T) {
 	}
 	b.ok(t, 1, on(api.Give, i, 0))
 	b.bytes(t, i, strings.Repeat("w", 256))
+}
+
+// P22.2: own grants take just as much room as there is, and shared ones none.
+func TestSpareOfGrants(t *testing.T) {
+	b := fresh(t).loud()
+	b.hello(t, 1, 2)
+	i, k := b.open(t, 1, "/a"), b.open(t, 2, "/b")
+	used := b.Volume().Meta().Map()
+	for used.Count() < 128-4 {
+		used = used.Take(used.First(1))
+	}
+	b.Volume().Meta().SetMap(used)
+	b.Volume().Commit()
+	b.ok(t, 2, on(api.Grant, k, 0))
+	b.ok(t, 1, on(api.Grant, i, 1))
+	b.asks(t, 2, path1(api.Mkdir, "/d", 0), failed(api.ErrSpace))
+	b.ok(t, 1, on(api.Give, i, 0))
+	b.ok(t, 2, path1(api.Mkdir, "/d", 0))
 }
 
 // P22.2: Clean.

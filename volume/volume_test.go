@@ -99,8 +99,12 @@ func TestFormat(t *testing.T) {
 	}
 	m := pmem.New(layout.Size())
 	p := part(layout.Log, 0)
-	plog.New(m, p.At, p.Size).Append([]api.Patch{{At: 0, Data: "old"}})
+	block := part(layout.Data, 5)
+	plog.New(m, p.At, p.Size).Append([]api.Patch{{At: block.At, Data: "old"}})
 	ok(t, volume.Format(m))
+	if b, _ := m.Load(block.At, 3); !slices.Equal(b, make([]byte, 3)) {
+		t.Error("the server's log was redone", b)
+	}
 	if b, _ := m.Load(p.At, 8); !slices.Equal(b, make([]byte, 8)) {
 		t.Error("the server's log", b)
 	}
