@@ -388,6 +388,20 @@ func TestRead(t *testing.T) {
 	}
 }
 
+// P24.3: a Get after a Read was answered does not concern it.
+func TestGetAfterRead(t *testing.T) {
+	f := ready(t, 1)
+	does(t, f, call(1, open("/a")), calm(1), call(1, read(0, 9)), calm(1))
+	before := told(t, f, api.Reply{})
+	p, _ := layout.Find(layout.Logs, 1)
+	get, _ := wire.Put(api.Packet{Kind: api.VerbAsk, Client: 1, Epoch: f.Server().Epoch(1), Seq: 2, Op: api.Get, At: p.At, N: 8})
+	moment := f.Moment()
+	does(t, f, api.Step{Op: api.StepInject, Data: get})
+	if e := last(t, f); e.Done != before.Done || f.Moment() != moment+1 {
+		t.Error(e, f.Moment())
+	}
+}
+
 // P24.3: a Trunc is undone like a Write.
 func TestTruncAndCrash(t *testing.T) {
 	f := ready(t, 1)

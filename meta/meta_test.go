@@ -215,11 +215,19 @@ func TestBlock(t *testing.T) {
 	}
 }
 
+// beside returns an error, or OK if there is another result beside it.
+func beside(e api.Errno, nothing bool) api.Errno {
+	if !nothing {
+		return api.OK
+	}
+	return e
+}
+
 // P14.3: what is corrupt is said so.
 func TestCorrupt(t *testing.T) {
 	calls := []func(v vol, path string) api.Errno{
-		func(v vol, path string) api.Errno { _, e := v.Walk(path); return e },
-		func(v vol, path string) api.Errno { _, e := v.Open(1, path, 1, false, 0); return e },
+		func(v vol, path string) api.Errno { i, e := v.Walk(path); return beside(e, i == 0) },
+		func(v vol, path string) api.Errno { i, e := v.Open(1, path, 1, false, 0); return beside(e, i == 0) },
 		func(v vol, path string) api.Errno { return v.Mkdir(path, 0) },
 		func(v vol, path string) api.Errno { return v.Rmdir(path) },
 		func(v vol, path string) api.Errno { return v.Link(path, "/new", 0) },
@@ -227,8 +235,8 @@ func TestCorrupt(t *testing.T) {
 		func(v vol, path string) api.Errno { return v.Rename(path, "/new", 0) },
 		func(v vol, path string) api.Errno { return v.Rename("/o", path, 0) },
 		func(v vol, path string) api.Errno { return v.Link("/o", path, 0) },
-		func(v vol, path string) api.Errno { _, e := v.List(path); return e },
-		func(v vol, path string) api.Errno { _, e := v.Stat(path); return e },
+		func(v vol, path string) api.Errno { l, e := v.List(path); return beside(e, len(l) == 0) },
+		func(v vol, path string) api.Errno { s, e := v.Stat(path); return beside(e, s == api.Info{}) },
 	}
 	spoil := []func(v vol){
 		func(v vol) { x, _ := v.Inode(3); v.spoil(layout.Data, x.Blocks[names.Hash("f")/4], 2) },

@@ -475,6 +475,9 @@ func TestSpareOfGrants(t *testing.T) {
 	b.ok(t, 2, on(api.Grant, k, 0))
 	b.ok(t, 1, on(api.Grant, i, 1))
 	b.asks(t, 2, path1(api.Mkdir, "/d", 0), failed(api.ErrSpace))
+	if x, e := b.Volume().Meta().Inode(4); x != (api.Inode{}) || e != api.OK {
+		t.Error("something of a call that failed stayed", x)
+	}
 	b.ok(t, 1, on(api.Give, i, 0))
 	b.ok(t, 2, path1(api.Mkdir, "/d", 0))
 }
